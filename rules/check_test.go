@@ -1,0 +1,214 @@
+// Package rules tests what the document's sections Rules and Promises (P1, P2)
+// state for every function of every layer: it calls the functions with arguments
+// of all kinds, and looks at arguments and results by reflection.
+package rules
+
+import (
+	"fmt"
+	"math"
+	"math/rand"
+	"reflect"
+	"runtime"
+	"testing"
+
+	"plumbline/api"
+)
+
+const rounds = 1000
+
+// checkAll calls functions, and expects that they do not panic, do not modify
+// their arguments, return new memory, return numbers in the form of results, and
+// return the same for the same arguments in slices of other capacities.
+func checkAll(t *testing.T, functions ...any) {
+	t.Helper()
+	for _, f := range functions {
+		name := runtime.FuncForPC(reflect.ValueOf(f).Pointer()).Name()
+		t.Run(name, func(t *testing.T) {
+			for seed := range int64(rounds) {
+				check(t, reflect.ValueOf(f), seed)
+			}
+		})
+	}
+}
+
+func check(t *testing.T, f reflect.Value, seed int64) {
+	t.Helper()
+	args := arguments(seed, f.Type(), 2)
+	before := told(true, args...)
+	defer func() {
+		if p := recover(); p != nil {
+			t.Fatalf("panic: %v, for %s", p, before)
+		}
+	}()
+	results := call(f, args)
+	if after := told(true, args...); after != before {
+		t.Fatalf("arguments %s become %s", before, after)
+	}
+	if sharing(results, args) {
+		t.Fatalf("results share memory, for %s", before)
+	}
+	for _, v := range results {
+		if !wellFormed(v) {
+			t.Fatalf("a number's form in %s, for %s", told(false, v), before)
+		}
+	}
+	first, again := told(false, results...), told(false, call(f, arguments(seed, f.Type(), 0))...)
+	if first != again {
+		t.Fatalf("%s, then %s, for %s", first, again, before)
+	}
+}
+
+func call(f reflect.Value, args []reflect.Value) []reflect.Value {
+	if f.Type().IsVariadic() {
+		return f.CallSlice(args)
+	}
+	return f.Call(args)
+}
+
+// arguments are the same for the same seed, but for the spare capacity of slices.
+func arguments(seed int64, f reflect.Type, spare int) []reflect.Value {
+	r := rand.New(rand.NewSource(seed))
+	var args []reflect.Value
+	for i := range f.NumIn() {
+		args = append(args, made(r, f.In(i), spare, 0))
+	}
+	return args
+}
+
+// made is a value of type t. The spare capacity of its slices is not zeroed.
+func made(r *rand.Rand, t reflect.Type, spare, depth int) reflect.Value {
+	v := reflect.New(t).Elem()
+	switch t.Kind() {
+	case reflect.Bool:
+		v.SetBool(r.Intn(2) == 0)
+	case reflect.Int, reflect.Int64:
+		v.SetInt(integer(r))
+	case reflect.Uint32, reflect.Uint64:
+		v.SetUint([]uint64{0, 0, 1, 1, 2, 3, 6, 1 << 31, math.MaxUint32}[r.Intn(9)])
+	case reflect.String:
+		v.SetString([]string{"", "x", "y", "0", "12", "-3", "\xff"}[r.Intn(7)])
+	case reflect.Struct:
+		for i := range t.NumField() {
+			v.Field(i).Set(made(r, t.Field(i).Type, spare, depth+1))
+		}
+	case reflect.Slice:
+		if depth > 8 || r.Intn(8) == 0 {
+			break
+		}
+		size := r.Intn(4)
+		s := reflect.MakeSlice(t, size+spare, size+spare)
+		for i := range size {
+			s.Index(i).Set(made(r, t.Elem(), spare, depth+1))
+		}
+		for i := range spare {
+			s.Index(size + i).Set(made(rand.New(rand.NewSource(1)), t.Elem(), 0, depth+8))
+		}
+		v.Set(s.Slice(0, size))
+	default:
+		panic("no values are made of " + t.String())
+	}
+	return v
+}
+
+// integer is most often one that can be a variable, an index or a kind.
+func integer(r *rand.Rand) int64 {
+	others := []int64{
+		-2, -1, 40, 1 << 16, 1 << 20, 1<<20 + 1, math.MaxInt32, math.MaxInt32 + 1, math.MinInt32, math.MinInt32 - 1,
+		math.MaxInt64, math.MinInt64,
+	}
+	if r.Intn(8) == 0 {
+		return others[r.Intn(len(others))]
+	}
+	return int64(r.Intn(6))
+}
+
+// told is a text that differs where values differ, or, with spare, where the
+// spare capacity of slices differs. A nil slice counts as an empty one.
+func told(spare bool, vs ...reflect.Value) string {
+	text := ""
+	for _, v := range vs {
+		switch v.Kind() {
+		case reflect.Struct:
+			text += "{" + told(spare, fields(v)...) + "} "
+		case reflect.Slice:
+			text += "[" + told(spare, elements(v)...) + "] "
+			if spare {
+				text += "then [" + told(spare, elements(v.Slice(v.Len(), v.Cap()))...) + "] "
+			}
+		default:
+			text += fmt.Sprintf("%#v ", v)
+		}
+	}
+	return text
+}
+
+func fields(v reflect.Value) []reflect.Value {
+	var all []reflect.Value
+	for i := range v.NumField() {
+		all = append(all, v.Field(i))
+	}
+	return all
+}
+
+func elements(v reflect.Value) []reflect.Value {
+	var all []reflect.Value
+	for i := range v.Len() {
+		all = append(all, v.Index(i))
+	}
+	return all
+}
+
+// region is the memory of a slice, up to its capacity.
+type region struct{ from, to uintptr }
+
+func regions(vs ...reflect.Value) []region {
+	var all []region
+	for _, v := range vs {
+		switch v.Kind() {
+		case reflect.Struct:
+			all = append(all, regions(fields(v)...)...)
+		case reflect.Slice:
+			size := uintptr(v.Cap()) * v.Type().Elem().Size()
+			all = append(all, region{v.Pointer(), v.Pointer() + size})
+			all = append(all, regions(elements(v)...)...)
+		}
+	}
+	return all
+}
+
+// sharing reports whether two slices of the results, or one of them and one of
+// the arguments, share memory.
+func sharing(results, args []reflect.Value) bool {
+	mine := regions(results...)
+	for i, a := range mine {
+		for _, b := range append(mine[i+1:len(mine):len(mine)], regions(args...)...) {
+			if a.from < b.to && b.from < a.to {
+				return true
+			}
+		}
+	}
+	return false
+}
+
+// wellFormed reports whether all numbers in v have the form of results.
+func wellFormed(v reflect.Value) bool {
+	var parts []reflect.Value
+	switch v.Kind() {
+	case reflect.Struct:
+		if n, ok := v.Interface().(api.Int); ok && n.Neg && len(n.Abs) == 0 {
+			return false
+		}
+		parts = fields(v)
+	case reflect.Slice:
+		if n, ok := v.Interface().(api.Nat); ok && len(n) > 0 && n[len(n)-1] == 0 {
+			return false
+		}
+		parts = elements(v)
+	}
+	for _, p := range parts {
+		if !wellFormed(p) {
+			return false
+		}
+	}
+	return true
+}

@@ -1,0 +1,21 @@
+package rules
+
+import (
+	"testing"
+
+	"plumbline/rel"
+	"plumbline/term"
+)
+
+// Layers 1 and 2 have such tests beside them.
+
+func TestP3_4RulesOfTerm(t *testing.T) {
+	checkAll(t, term.Plain, term.Number, term.Var, term.Add, term.Sub, term.Scale, term.Neg,
+		term.Coef, term.Without, term.Vars, term.Has, term.Put, term.PutAll, term.Move, term.Value,
+		term.Content, term.Shrink, term.Cmp, term.Same, term.Name, term.Text)
+}
+
+func TestP4_4RulesOfRel(t *testing.T) {
+	checkAll(t, rel.Zero, rel.Least, rel.Tight, rel.Holds, rel.Deny, rel.Put, rel.PutAll, rel.Move, rel.Vars,
+		rel.Cmp, rel.Same, rel.Tidy, rel.Text)
+}
