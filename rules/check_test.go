@@ -24,6 +24,7 @@ func checkAll(t *testing.T, functions ...any) {
 	for _, f := range functions {
 		name := runtime.FuncForPC(reflect.ValueOf(f).Pointer()).Name()
 		t.Run(name, func(t *testing.T) {
+			t.Parallel()
 			for seed := range int64(rounds) {
 				check(t, reflect.ValueOf(f), seed)
 			}

@@ -3,6 +3,7 @@ package rules
 import (
 	"testing"
 
+	"plumbline/logic"
 	"plumbline/rel"
 	"plumbline/term"
 )
@@ -18,4 +19,9 @@ func TestP3_4RulesOfTerm(t *testing.T) {
 func TestP4_4RulesOfRel(t *testing.T) {
 	checkAll(t, rel.Zero, rel.Least, rel.Tight, rel.Holds, rel.Deny, rel.Put, rel.PutAll, rel.Move, rel.Vars,
 		rel.Cmp, rel.Same, rel.Tidy, rel.Text)
+}
+
+func TestP5_4RulesOfLogic(t *testing.T) {
+	checkAll(t, logic.Of, logic.Truth, logic.Deny, logic.All, logic.Any, logic.Compare, logic.Holds, logic.Size,
+		logic.Vars, logic.Flat, logic.PutAll, logic.Move, logic.Cubes, logic.Same, logic.Text)
 }
