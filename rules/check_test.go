@@ -21,15 +21,53 @@ const rounds = 1000
 // return the same for the same arguments in slices of other capacities.
 func checkAll(t *testing.T, functions ...any) {
 	t.Helper()
+	checkBut(t, span{1, 0}, functions...)
+}
+
+// span contains the integers from one to another.
+type span struct{ from, to int64 }
+
+// checkBut is checkAll, but for calls with an integer in left: they would return
+// too much for this way of looking at it.
+func checkBut(t *testing.T, left span, functions ...any) {
+	t.Helper()
 	for _, f := range functions {
 		name := runtime.FuncForPC(reflect.ValueOf(f).Pointer()).Name()
 		t.Run(name, func(t *testing.T) {
 			t.Parallel()
+			checked := 0
 			for seed := range int64(rounds) {
-				check(t, reflect.ValueOf(f), seed)
+				if !contains(left, arguments(seed, reflect.TypeOf(f), 0)...) {
+					check(t, reflect.ValueOf(f), seed)
+					checked++
+				}
+			}
+			if checked < rounds/4 {
+				t.Errorf("only %d calls", checked)
 			}
 		})
 	}
+}
+
+// contains reports whether an integer in vs is in s.
+func contains(s span, vs ...reflect.Value) bool {
+	for _, v := range vs {
+		switch v.Kind() {
+		case reflect.Int, reflect.Int64:
+			if v.Int() >= s.from && v.Int() <= s.to {
+				return true
+			}
+		case reflect.Struct:
+			if contains(s, fields(v)...) {
+				return true
+			}
+		case reflect.Slice:
+			if contains(s, elements(v)...) {
+				return true
+			}
+		}
+	}
+	return false
 }
 
 func check(t *testing.T, f reflect.Value, seed int64) {

@@ -1,10 +1,13 @@
 package rules
 
 import (
+	"math"
 	"testing"
 
+	"plumbline/elim"
 	"plumbline/logic"
 	"plumbline/rel"
+	"plumbline/shadow"
 	"plumbline/term"
 )
 
@@ -24,4 +27,15 @@ func TestP4_4RulesOfRel(t *testing.T) {
 func TestP5_4RulesOfLogic(t *testing.T) {
 	checkAll(t, logic.Of, logic.Truth, logic.Deny, logic.All, logic.Any, logic.Compare, logic.Holds, logic.Size,
 		logic.Vars, logic.Flat, logic.PutAll, logic.Move, logic.Cubes, logic.Same, logic.Text)
+}
+
+func TestP6_4RulesOfElim(t *testing.T) {
+	checkAll(t, elim.Solve)
+	checkBut(t, span{100, 1<<21 - 1}, elim.Back) // variables up to which values are returned
+	checkBut(t, span{100, math.MaxInt64}, elim.Forth)
+}
+
+func TestP7_4RulesOfShadow(t *testing.T) {
+	checkAll(t, shadow.Choose, shadow.Real, shadow.Dark, shadow.Fit)
+	checkBut(t, span{math.MaxInt32, math.MaxInt64}, shadow.Pieces) // so many lists may be wanted
 }
