@@ -4,8 +4,10 @@ import (
 	"math"
 	"testing"
 
+	"plumbline/api"
 	"plumbline/elim"
 	"plumbline/logic"
+	"plumbline/omega"
 	"plumbline/rel"
 	"plumbline/shadow"
 	"plumbline/term"
@@ -38,4 +40,9 @@ func TestP6_4RulesOfElim(t *testing.T) {
 func TestP7_4RulesOfShadow(t *testing.T) {
 	checkAll(t, shadow.Choose, shadow.Real, shadow.Dark, shadow.Fit)
 	checkBut(t, span{math.MaxInt32, math.MaxInt64}, shadow.Pieces) // so many lists may be wanted
+}
+
+func TestP8_4RulesOfOmega(t *testing.T) {
+	checkBut(t, span{100, math.MaxInt64}, omega.Decide) // values that are returned
+	checkAll(t, omega.Can, func(rs []api.Rel) omega.Answer { return omega.Decide(rs, 3, 10000) })
 }
