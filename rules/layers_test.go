@@ -5,6 +5,7 @@ import (
 	"testing"
 
 	"plumbline/api"
+	"plumbline/decide"
 	"plumbline/elim"
 	"plumbline/logic"
 	"plumbline/omega"
@@ -45,4 +46,10 @@ func TestP7_4RulesOfShadow(t *testing.T) {
 func TestP8_4RulesOfOmega(t *testing.T) {
 	checkBut(t, span{100, math.MaxInt64}, omega.Decide) // values that are returned
 	checkAll(t, omega.Can, func(rs []api.Rel) omega.Answer { return omega.Decide(rs, 3, 10000) })
+}
+
+func TestP9_4RulesOfDecide(t *testing.T) {
+	checkBut(t, span{100, math.MaxInt64}, decide.Sat) // values that are returned
+	checkAll(t, decide.Valid, decide.Follows, decide.Equal, decide.Trim, decide.Short,
+		func(f api.Form) omega.Answer { return decide.Sat(f, 3, 10000) })
 }
