@@ -12,6 +12,7 @@ import (
 	"testing"
 
 	"plumbline/api"
+	"plumbline/lex"
 )
 
 const rounds = 1000
@@ -125,11 +126,12 @@ func made(r *rand.Rand, t reflect.Type, spare, depth int) reflect.Value {
 	case reflect.Uint32, reflect.Uint64:
 		v.SetUint([]uint64{0, 0, 1, 1, 2, 3, 6, 1 << 31, math.MaxUint32}[r.Intn(9)])
 	case reflect.String:
-		v.SetString([]string{"", "x", "y", "0", "12", "-3", "\xff"}[r.Intn(7)])
+		v.SetString([]string{"", "x", "y", "0", "12", "-3", "\xff", "x + 2*y <= 12 & !(y = 0 | true)"}[r.Intn(8)])
 	case reflect.Struct:
 		for i := range t.NumField() {
 			v.Field(i).Set(made(r, t.Field(i).Type, spare, depth+1))
 		}
+		mend(r, v.Addr().Interface())
 	case reflect.Slice:
 		if depth > 8 || r.Intn(8) == 0 {
 			break
@@ -147,6 +149,35 @@ func made(r *rand.Rand, t reflect.Type, spare, depth int) reflect.Value {
 		panic("no values are made of " + t.String())
 	}
 	return v
+}
+
+// mend makes most tokens, sums and trees valid, if they have valid parts.
+func mend(r *rand.Rand, made any) {
+	switch m := made.(type) {
+	case *api.Mono:
+		if r.Intn(16) > 0 {
+			m.Num, m.Var = []string{"", "0", "12"}[r.Intn(3)], []string{"x", "y"}[r.Intn(2)]
+		}
+	case *lex.Token:
+		ts, _, _ := lex.All("x y 0 12 true + - * = <= ! ( ) & | G")
+		if r.Intn(16) > 0 {
+			*m = ts[r.Intn(len(ts))]
+		}
+	case *api.Tree:
+		if r.Intn(16) > 0 {
+			mendTree(r, m)
+		}
+	}
+}
+
+// mendTree keeps the kids and sums of a tree that are not too many.
+func mendTree(r *rand.Rand, t *api.Tree) {
+	if len(t.L) > 0 && len(t.R) > 0 && (t.Kind == api.TCmp || len(t.Kids) == 0) {
+		*t = api.Tree{Kind: api.TCmp, L: t.L, R: t.R, Op: r.Intn(6)}
+		return
+	}
+	kind := []int{r.Intn(2), api.TNot, api.TAnd + r.Intn(2)}[min(len(t.Kids), 2)]
+	*t = api.Tree{Kind: kind, Kids: t.Kids[:min(len(t.Kids), 2)]}
 }
 
 // integer is most often one that can be a variable, an index or a kind.

@@ -7,6 +7,8 @@ import (
 	"plumbline/api"
 	"plumbline/decide"
 	"plumbline/elim"
+	"plumbline/expr"
+	"plumbline/lex"
 	"plumbline/logic"
 	"plumbline/omega"
 	"plumbline/rel"
@@ -52,4 +54,38 @@ func TestP9_4RulesOfDecide(t *testing.T) {
 	checkBut(t, span{100, math.MaxInt64}, decide.Sat) // values that are returned
 	checkAll(t, decide.Valid, decide.Follows, decide.Equal, decide.Trim, decide.Short,
 		func(f api.Form) omega.Answer { return decide.Sat(f, 3, 10000) })
+}
+
+func TestP10_1RulesOfLex(t *testing.T) {
+	checkAll(t, lex.All, lex.Spell, lex.Reserved, lex.Name, lex.Number)
+}
+
+func TestP11_4RulesOfExpr(t *testing.T) {
+	checkAll(t, expr.ParseSum, expr.ParseCond, expr.SumText, expr.Text, expr.RightSum, expr.Right, expr.Bare, expr.Compares,
+		expr.CompareText, expr.Term, expr.Form)
+}
+
+func TestP11_4RulesOfCursor(t *testing.T) {
+	checkAll(t,
+		func(c expr.Cursor) (lex.Token, int) { return c.At(), c.I },
+		func(c expr.Cursor, text string) (bool, int) { return c.Take(text), c.I },
+		func(c expr.Cursor, text string) (api.Errno, int) { return c.Want(text), c.I },
+		func(c expr.Cursor) ([]api.Mono, api.Errno, int) {
+			ms, e := c.Sum()
+			return ms, e, c.I
+		},
+		func(c expr.Cursor) (api.Tree, api.Errno, int) {
+			t, e := c.Compare()
+			return t, e, c.I
+		},
+		func(c expr.Cursor) (api.Tree, api.Errno, int) {
+			t, e := c.Cond()
+			return t, e, c.I
+		},
+		func(s string, vars []string, known bool) (api.Tree, api.Pos, api.Errno) {
+			return expr.Whole(s, vars, known, (*expr.Cursor).Cond)
+		},
+		func(s string, vars []string, known bool) ([]string, api.Pos, api.Errno) {
+			return expr.Whole(s, vars, known, func(c *expr.Cursor) ([]string, api.Errno) { return c.Vars, api.OK })
+		})
 }
