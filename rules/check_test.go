@@ -126,7 +126,7 @@ func made(r *rand.Rand, t reflect.Type, spare, depth int) reflect.Value {
 	case reflect.Uint32, reflect.Uint64:
 		v.SetUint([]uint64{0, 0, 1, 1, 2, 3, 6, 1 << 31, math.MaxUint32}[r.Intn(9)])
 	case reflect.String:
-		v.SetString([]string{"", "x", "y", "0", "12", "-3", "\xff", "x + 2*y <= 12 & !(y = 0 | true)"}[r.Intn(8)])
+		v.SetString([]string{"", "x", "y", "0", "12", "-3", "\xff", "x + 2*y <= 12 & !(y = 0 | true)", modelText}[r.Intn(9)])
 	case reflect.Struct:
 		for i := range t.NumField() {
 			v.Field(i).Set(made(r, t.Field(i).Type, spare, depth+1))
@@ -151,7 +151,9 @@ func made(r *rand.Rand, t reflect.Type, spare, depth int) reflect.Value {
 	return v
 }
 
-// mend makes most tokens, sums and trees valid, if they have valid parts.
+const modelText = "var x in -3 .. 12; var y; init x = 0; proc p loc x, y; x -> y : x < 3 / x := x + 1, y := *; y -> y; end"
+
+// mend makes most tokens, sums, trees and models valid, if they have valid parts.
 func mend(r *rand.Rand, made any) {
 	switch m := made.(type) {
 	case *api.Mono:
@@ -166,6 +168,53 @@ func mend(r *rand.Rand, made any) {
 	case *api.Tree:
 		if r.Intn(16) > 0 {
 			mendTree(r, m)
+		}
+	case *api.Model:
+		if r.Intn(16) > 0 {
+			mendModel(r, m)
+		}
+	}
+}
+
+// given are at least as many names as there are variables of a model that is made.
+var given = []string{"x", "y", "z", "p", "q", "r", "s", "t", "u", "v", "w"}
+
+// mendModel gives names to all that has one. There are at least x and y.
+func mendModel(r *rand.Rand, m *api.Model) {
+	m.Decls = append(m.Decls, api.Decl{Names: []string{"", ""}})
+	names := given
+	for i := range m.Decls {
+		d := &m.Decls[i]
+		if len(d.Names) == 0 {
+			d.Names = []string{""}
+		}
+		names = names[copy(d.Names, names):]
+		d.Lo, d.Hi = "", ""
+		if d.Ranged {
+			d.Lo, d.Hi = "-3", "12"
+		}
+	}
+	if len(m.Procs) == 0 {
+		m.Procs = make([]api.Proc, 1)
+	}
+	for i := range m.Procs {
+		m.Procs[i].Name = given[i]
+		mendProc(r, &m.Procs[i])
+	}
+}
+
+func mendProc(r *rand.Rand, p *api.Proc) {
+	if len(p.Locs) == 0 {
+		p.Locs = []string{""}
+	}
+	copy(p.Locs, given)
+	for i := range p.Cmds {
+		c := &p.Cmds[i]
+		c.From, c.To = p.Locs[r.Intn(len(p.Locs))], p.Locs[r.Intn(len(p.Locs))]
+		c.Sets = c.Sets[:min(len(c.Sets), 2)]
+		for j := range c.Sets {
+			s := &c.Sets[j]
+			s.Var, s.Any = []string{"y", "x"}[j], len(s.E) == 0
 		}
 	}
 }

@@ -2,6 +2,7 @@ package rules
 
 import (
 	"math"
+	"reflect"
 	"testing"
 
 	"plumbline/api"
@@ -10,7 +11,9 @@ import (
 	"plumbline/expr"
 	"plumbline/lex"
 	"plumbline/logic"
+	"plumbline/model"
 	"plumbline/omega"
+	"plumbline/pretty"
 	"plumbline/rel"
 	"plumbline/shadow"
 	"plumbline/term"
@@ -88,4 +91,27 @@ func TestP11_4RulesOfCursor(t *testing.T) {
 		func(s string, vars []string, known bool) ([]string, api.Pos, api.Errno) {
 			return expr.Whole(s, vars, known, func(c *expr.Cursor) ([]string, api.Errno) { return c.Vars, api.OK })
 		})
+}
+
+func TestP12_3RulesOfModel(t *testing.T) {
+	checkAll(t, model.Parse, model.Right, model.System)
+}
+
+func TestP13_4RulesOfPretty(t *testing.T) {
+	checkAll(t, pretty.Text, pretty.Place, pretty.Act, pretty.State)
+}
+
+// TestValidModels: the models that are made for these checks are valid often enough.
+func TestValidModels(t *testing.T) {
+	valid, acts := 0, 0
+	for seed := range int64(rounds) {
+		s, ok := model.System(arguments(seed, reflect.TypeOf(model.Right), 2)[0].Interface().(api.Model))
+		acts += len(s.Acts)
+		if ok {
+			valid++
+		}
+	}
+	if valid < rounds/8 || acts < rounds/4 {
+		t.Errorf("only %d of %d models are valid, with %d acts", valid, rounds, acts)
+	}
 }
