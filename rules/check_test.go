@@ -126,7 +126,7 @@ func made(r *rand.Rand, t reflect.Type, spare, depth int) reflect.Value {
 	case reflect.Uint32, reflect.Uint64:
 		v.SetUint([]uint64{0, 0, 1, 1, 2, 3, 6, 1 << 31, math.MaxUint32}[r.Intn(9)])
 	case reflect.String:
-		v.SetString([]string{"", "x", "y", "0", "12", "-3", "\xff", "x + 2*y <= 12 & !(y = 0 | true)", modelText}[r.Intn(9)])
+		v.SetString([]string{"", "x", "y", "0", "12", "-3", "\xff", "x + 2*y <= 12 & !(y = 0 | true)", modelText, "G (x > 1 -> F @x.y)"}[r.Intn(10)])
 	case reflect.Struct:
 		for i := range t.NumField() {
 			v.Field(i).Set(made(r, t.Field(i).Type, spare, depth+1))
@@ -153,7 +153,8 @@ func made(r *rand.Rand, t reflect.Type, spare, depth int) reflect.Value {
 
 const modelText = "var x in -3 .. 12; var y; init x = 0; proc p loc x, y; x -> y : x < 3 / x := x + 1, y := *; y -> y; end"
 
-// mend makes most tokens, sums, trees and models valid, if they have valid parts.
+// mend makes most tokens, sums, trees, models and properties valid, if they have valid
+// parts.
 func mend(r *rand.Rand, made any) {
 	switch m := made.(type) {
 	case *api.Mono:
@@ -172,6 +173,19 @@ func mend(r *rand.Rand, made any) {
 	case *api.Model:
 		if r.Intn(16) > 0 {
 			mendModel(r, m)
+		}
+	case *api.Sys:
+		if r.Intn(16) > 0 {
+			m.Vars = append(m.Vars, "", "")
+			copy(m.Vars, given)
+			mendProcs(r, m.Procs)
+		}
+	case *property:
+		mendTree(r, (*api.Tree)(m))
+		mendProperty(r, (*api.Tree)(m))
+	case *api.Ltl:
+		if r.Intn(16) > 0 {
+			m.Kind, m.Prop = r.Intn(14), r.Intn(5)-1
 		}
 	}
 }
@@ -197,9 +211,13 @@ func mendModel(r *rand.Rand, m *api.Model) {
 	if len(m.Procs) == 0 {
 		m.Procs = make([]api.Proc, 1)
 	}
-	for i := range m.Procs {
-		m.Procs[i].Name = given[i]
-		mendProc(r, &m.Procs[i])
+	mendProcs(r, m.Procs)
+}
+
+func mendProcs(r *rand.Rand, ps []api.Proc) {
+	for i := range ps {
+		ps[i].Name = given[i]
+		mendProc(r, &ps[i])
 	}
 }
 
@@ -227,6 +245,26 @@ func mendTree(r *rand.Rand, t *api.Tree) {
 	}
 	kind := []int{r.Intn(2), api.TNot, api.TAnd + r.Intn(2)}[min(len(t.Kids), 2)]
 	*t = api.Tree{Kind: kind, Kids: t.Kids[:min(len(t.Kids), 2)]}
+}
+
+// property is a tree that is made as a property, not as a condition.
+type property api.Tree
+
+// mendProperty makes a condition a property, with kinds of as many kids.
+func mendProperty(r *rand.Rand, t *api.Tree) {
+	switch len(t.Kids) {
+	case 0:
+		if t.Kind != api.TCmp && r.Intn(2) == 0 {
+			*t = api.Tree{Kind: api.TAt, Proc: "x", Loc: given[r.Intn(2)]}
+		}
+	case 1:
+		t.Kind = []int{api.TNot, api.TNext, api.TAll, api.TSome}[r.Intn(4)]
+	case 2:
+		t.Kind = []int{api.TAnd, api.TOr, api.TImp, api.TUntil, api.TFree}[r.Intn(5)]
+	}
+	for i := range t.Kids {
+		mendProperty(r, &t.Kids[i])
+	}
 }
 
 // integer is most often one that can be a variable, an index or a kind.

@@ -11,12 +11,14 @@ import (
 	"plumbline/expr"
 	"plumbline/lex"
 	"plumbline/logic"
+	"plumbline/ltl"
 	"plumbline/model"
 	"plumbline/omega"
 	"plumbline/pretty"
 	"plumbline/rel"
 	"plumbline/shadow"
 	"plumbline/term"
+	"plumbline/word"
 )
 
 // Layers 1 and 2 have such tests beside them.
@@ -99,6 +101,36 @@ func TestP12_3RulesOfModel(t *testing.T) {
 
 func TestP13_4RulesOfPretty(t *testing.T) {
 	checkAll(t, pretty.Text, pretty.Place, pretty.Act, pretty.State)
+}
+
+func TestP14_4RulesOfLtl(t *testing.T) {
+	checkAll(t, ltl.Parse, ltl.Right, ltl.Text, ltl.Resolve,
+		func(p property) bool { return ltl.Right(api.Tree(p)) },
+		func(p property) string { return ltl.Text(api.Tree(p)) },
+		func(p property, s api.Sys) (api.Ltl, []api.Prop, bool) { return ltl.Resolve(api.Tree(p), s) },
+		func(p property, s api.Sys) (api.Tree, api.Pos, api.Errno) { return ltl.Parse(ltl.Text(api.Tree(p)), s) })
+}
+
+func TestP15_1RulesOfWord(t *testing.T) {
+	checkAll(t, word.Holds, word.Plain, word.Size, word.Same, word.Shift, word.Unroll)
+}
+
+// TestKnownProperties: the properties that are made for these checks are known often
+// enough.
+func TestKnownProperties(t *testing.T) {
+	known, atoms := 0, 0
+	resolve := func(p property, s api.Sys) (api.Ltl, []api.Prop, bool) { return ltl.Resolve(api.Tree(p), s) }
+	for seed := range int64(rounds) {
+		f := reflect.ValueOf(resolve)
+		results := f.Call(arguments(seed, f.Type(), 2))
+		atoms += results[1].Len()
+		if results[2].Bool() {
+			known++
+		}
+	}
+	if known < rounds/4 || atoms < rounds/4 {
+		t.Errorf("only %d of %d properties are known, with %d atoms", known, rounds, atoms)
+	}
 }
 
 // TestValidModels: the models that are made for these checks are valid often enough.
