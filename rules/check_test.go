@@ -12,6 +12,8 @@ import (
 	"testing"
 
 	"plumbline/api"
+	"plumbline/buchi"
+	"plumbline/gba"
 	"plumbline/lex"
 )
 
@@ -153,8 +155,8 @@ func made(r *rand.Rand, t reflect.Type, spare, depth int) reflect.Value {
 
 const modelText = "var x in -3 .. 12; var y; init x = 0; proc p loc x, y; x -> y : x < 3 / x := x + 1, y := *; y -> y; end"
 
-// mend makes most tokens, sums, trees, models and properties valid, if they have valid
-// parts.
+// mend makes most tokens, sums, trees, models, properties and automata valid, if they
+// have valid parts.
 func mend(r *rand.Rand, made any) {
 	switch m := made.(type) {
 	case *api.Mono:
@@ -187,6 +189,26 @@ func mend(r *rand.Rand, made any) {
 		if r.Intn(16) > 0 {
 			m.Kind, m.Prop = r.Intn(14), r.Intn(5)-1
 		}
+	case *gba.Node:
+		if r.Intn(4) > 0 {
+			m.Must, m.Never = m.Must[:len(m.Must)/3], m.Never[:len(m.Never)/2]
+			mendNodes(r, m.Next)
+		}
+	case *gba.Gba:
+		mendNodes(r, m.First)
+		m.Sets = m.Sets[:len(m.Sets)/2]
+		for i := range m.Sets {
+			mendNodes(r, m.Sets[i])
+		}
+	case *buchi.Auto:
+		mendNodes(r, m.First)
+	}
+}
+
+// mendNodes makes a list one of numbers of nodes that mostly exist.
+func mendNodes(r *rand.Rand, list []int) {
+	for i := range list {
+		list[i] = r.Intn(3)
 	}
 }
 

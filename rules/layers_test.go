@@ -6,9 +6,11 @@ import (
 	"testing"
 
 	"plumbline/api"
+	"plumbline/buchi"
 	"plumbline/decide"
 	"plumbline/elim"
 	"plumbline/expr"
+	"plumbline/gba"
 	"plumbline/lex"
 	"plumbline/logic"
 	"plumbline/ltl"
@@ -115,6 +117,26 @@ func TestP15_1RulesOfWord(t *testing.T) {
 	checkAll(t, word.Holds, word.Plain, word.Size, word.Same, word.Shift, word.Unroll)
 }
 
+func TestP16_4RulesOfGba(t *testing.T) {
+	checkAll(t, gba.Of, gba.Takes, gba.Count,
+		func(f api.Ltl, w word.Word) bool {
+			g, _ := gba.Of(f)
+			return gba.Takes(g, w)
+		})
+}
+
+func TestP17_4RulesOfBuchi(t *testing.T) {
+	checkAll(t, buchi.Of, buchi.Trim, buchi.For, buchi.Takes, buchi.Empty, buchi.Allows,
+		func(g gba.Gba) buchi.Auto {
+			a, _ := buchi.Of(g)
+			return buchi.Trim(a)
+		},
+		func(f api.Ltl, w word.Word) bool {
+			a, _ := buchi.For(f)
+			return buchi.Takes(a, w)
+		})
+}
+
 // TestKnownProperties: the properties that are made for these checks are known often
 // enough.
 func TestKnownProperties(t *testing.T) {
@@ -130,6 +152,26 @@ func TestKnownProperties(t *testing.T) {
 	}
 	if known < rounds/4 || atoms < rounds/4 {
 		t.Errorf("only %d of %d properties are known, with %d atoms", known, rounds, atoms)
+	}
+}
+
+// TestUsefulAutomata: the automata that are made for these checks accept words, and have
+// edges, often enough.
+func TestUsefulAutomata(t *testing.T) {
+	general, single, edges := 0, 0, 0
+	for seed := range int64(rounds) {
+		args := arguments(seed, reflect.TypeOf(gba.Takes), 2)
+		if reflect.ValueOf(gba.Takes).Call(args)[0].Bool() {
+			general++
+		}
+		_, n := gba.Count(args[0].Interface().(gba.Gba))
+		edges += n
+		if reflect.ValueOf(buchi.Takes).Call(arguments(seed, reflect.TypeOf(buchi.Takes), 2))[0].Bool() {
+			single++
+		}
+	}
+	if general < rounds/30 || single < rounds/100 || edges < rounds/2 {
+		t.Errorf("only %d and %d of %d automata accept a word, with %d edges", general, single, rounds, edges)
 	}
 }
 
