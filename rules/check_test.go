@@ -15,6 +15,7 @@ import (
 	"plumbline/buchi"
 	"plumbline/gba"
 	"plumbline/lex"
+	"plumbline/zint"
 )
 
 const rounds = 1000
@@ -144,13 +145,24 @@ func made(r *rand.Rand, t reflect.Type, spare, depth int) reflect.Value {
 			s.Index(i).Set(made(r, t.Elem(), spare, depth+1))
 		}
 		for i := range spare {
-			s.Index(size + i).Set(made(rand.New(rand.NewSource(1)), t.Elem(), 0, depth+8))
+			s.Index(size + i).Set(made(rand.New(new(counter)), t.Elem(), 0, depth+8))
 		}
 		v.Set(s.Slice(0, size))
 	default:
 		panic("no values are made of " + t.String())
 	}
 	return v
+}
+
+// counter is a source of numbers that, unlike that of package rand, takes no time to
+// begin with.
+type counter uint64
+
+func (c *counter) Seed(int64) {}
+
+func (c *counter) Int63() int64 {
+	*c += 0x9e3779b97f4a7c15
+	return int64(*c >> 1)
 }
 
 const modelText = "var x in -3 .. 12; var y; init x = 0; proc p loc x, y; x -> y : x < 3 / x := x + 1, y := *; y -> y; end"
@@ -202,7 +214,51 @@ func mend(r *rand.Rand, made any) {
 		}
 	case *buchi.Auto:
 		mendNodes(r, m.First)
+	case *scene:
+		mendScene(r, m)
 	}
+}
+
+// scene is a system that is mostly confined, with a state that mostly fits it.
+type scene struct {
+	S api.Sys
+	X api.State
+}
+
+func mendScene(r *rand.Rand, c *scene) {
+	c.S.Bounds, c.X.Vals = resized(c.S.Bounds, len(c.S.Vars)), resized(c.X.Vals, len(c.S.Vars))
+	for v := range c.S.Vars {
+		lo := r.Int63n(4) - 2
+		c.S.Bounds[v] = api.Bound{Is: r.Intn(12) > 0, Lo: zint.Of(lo), Hi: zint.Of(lo + r.Int63n(3))}
+		c.X.Vals[v] = zint.Of(lo + int64(r.Intn(8)/7))
+	}
+	c.X.Locs = resized(c.X.Locs, len(c.S.Procs))
+	for i, p := range c.S.Procs {
+		c.X.Locs[i] = r.Intn(max(len(p.Locs), 1))
+	}
+	for i := range c.S.Acts {
+		if a := &c.S.Acts[i]; r.Intn(6) > 0 && len(c.X.Locs) > 0 {
+			a.Proc = r.Intn(len(c.X.Locs))
+			a.From, a.To = c.X.Locs[a.Proc], r.Intn(max(len(c.S.Procs[a.Proc].Locs), 1))
+			a.Guard.Kind = []int{api.True, a.Guard.Kind}[r.Intn(2)]
+			mendMoves(r, a.Moves, len(c.S.Vars))
+		}
+	}
+	c.S.Init.Kind = []int{api.True, c.S.Init.Kind}[r.Intn(2)]
+}
+
+// mendMoves makes most terms small, and all V those of variables, if there are any.
+func mendMoves(r *rand.Rand, ms []api.Move, vars int) {
+	for i := range ms {
+		ms[i].V = r.Intn(max(vars, 1))
+		if r.Intn(3) > 0 {
+			ms[i].T = api.Term{K: zint.Of(r.Int63n(3) - 1)}
+		}
+	}
+}
+
+func resized[T any](list []T, n int) []T {
+	return append(list, make([]T, n)...)[:n]
 }
 
 // mendNodes makes a list one of numbers of nodes that mostly exist.

@@ -7,10 +7,12 @@ import (
 
 	"plumbline/api"
 	"plumbline/buchi"
+	"plumbline/confine"
 	"plumbline/decide"
 	"plumbline/elim"
 	"plumbline/expr"
 	"plumbline/gba"
+	"plumbline/kripke"
 	"plumbline/lex"
 	"plumbline/logic"
 	"plumbline/ltl"
@@ -135,6 +137,79 @@ func TestP17_4RulesOfBuchi(t *testing.T) {
 			a, _ := buchi.For(f)
 			return buchi.Takes(a, w)
 		})
+}
+
+func TestP18_3RulesOfKripke(t *testing.T) {
+	checkAll(t, kripke.Fits, kripke.First, kripke.Same, kripke.Can, kripke.Stuck, kripke.Leads, kripke.Go, kripke.Right,
+		kripke.Letter, kripke.Spell, stepsOf,
+		func(c scene, act int, y api.State) bool { return kripke.Leads(c.S, c.X, act, y) },
+		func(c scene) bool { return kripke.Right(c.S, runFrom(c)) },
+		func(c scene, ps []api.Prop) word.Word { return kripke.Spell(ps, runFrom(c)) })
+}
+
+// stepsOf are all things that layer 18 tells of a step, mostly of one that exists.
+func stepsOf(c scene, act int, picks []api.Int) (api.State, bool, bool, bool, bool) {
+	if act > 0 {
+		act %= len(c.S.Acts) + 1
+	}
+	y, ok := kripke.Go(c.S, c.X, act, picks)
+	return y, ok, kripke.Can(c.S, c.X, act), kripke.Stuck(c.S, c.X), kripke.Leads(c.S, c.X, act, y)
+}
+
+// runFrom is a run of some steps, which need not be valid.
+func runFrom(c scene) api.Run {
+	var r api.Run
+	x := c.X
+	for act := -1; act < len(c.S.Acts); act++ {
+		if y, ok := kripke.Go(c.S, x, act, nil); ok {
+			r.Stem, r.Cycle, r.Acts = append(r.Stem, x), []api.State{y}, append(r.Acts, act)
+			x = y
+		}
+	}
+	r.Acts = append(r.Acts, -1)
+	return r
+}
+
+func TestP19_4RulesOfConfine(t *testing.T) {
+	checkAll(t, confine.Count, confine.State, confine.Number, confine.Firsts, confine.Edges, confine.Search, stepsIn,
+		func(c scene, ps []api.Prop, a buchi.Auto, fuel int) confine.Answer {
+			return confine.Search(c.S, ps, a, fuel)
+		},
+		func(c scene, ps []api.Prop, a buchi.Auto) confine.Answer {
+			return confine.Search(c.S, ps, a, 10000)
+		},
+		func(c scene, ps []api.Prop, f api.Ltl) confine.Answer {
+			a, _ := buchi.For(f)
+			return confine.Search(c.S, ps, a, 10000)
+		})
+}
+
+// stepsIn are all things that layer 19 tells of a system and a state.
+func stepsIn(c scene, n int) (api.State, bool, int, []api.State, []confine.Edge) {
+	x, ok := confine.State(c.S, n)
+	number, _ := confine.Number(c.S, c.X)
+	return x, ok, number, confine.Firsts(c.S), confine.Edges(c.S, c.X)
+}
+
+// TestUsefulScenes: the systems and states that are made for these checks have states,
+// steps and runs often enough.
+func TestUsefulScenes(t *testing.T) {
+	steps, edges, firsts, found := 0, 0, 0, 0
+	for seed := range int64(rounds) {
+		if reflect.ValueOf(stepsOf).Call(arguments(seed, reflect.TypeOf(stepsOf), 2))[1].Bool() {
+			steps++
+		}
+		results := reflect.ValueOf(stepsIn).Call(arguments(seed, reflect.TypeOf(stepsIn), 2))
+		firsts += results[3].Len()
+		edges += results[4].Len()
+		search := func(c scene, ps []api.Prop, a buchi.Auto) int { return confine.Search(c.S, ps, a, 10000).State }
+		if reflect.ValueOf(search).Call(arguments(seed, reflect.TypeOf(search), 2))[0].Int() == confine.Found {
+			found++
+		}
+	}
+	if steps < rounds/20 || edges < rounds/2 || firsts < rounds || found < rounds/100 {
+		t.Errorf("only %d steps, %d edges, %d initial states, and %d runs", steps, edges, firsts, found)
+	}
 }
 
 // TestKnownProperties: the properties that are made for these checks are known often
