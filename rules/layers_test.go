@@ -3,8 +3,10 @@ package rules
 import (
 	"math"
 	"reflect"
+	"slices"
 	"testing"
 
+	"plumbline/abstr"
 	"plumbline/api"
 	"plumbline/buchi"
 	"plumbline/confine"
@@ -23,6 +25,7 @@ import (
 	"plumbline/shadow"
 	"plumbline/term"
 	"plumbline/word"
+	"plumbline/wp"
 )
 
 // Layers 1 and 2 have such tests beside them.
@@ -191,10 +194,46 @@ func stepsIn(c scene, n int) (api.State, bool, int, []api.State, []confine.Edge)
 	return x, ok, number, confine.Firsts(c.S), confine.Edges(c.S, c.X)
 }
 
+func TestP20_4RulesOfWp(t *testing.T) {
+	checkAll(t, wp.Range, wp.Start, wp.Can, wp.Stuck, wp.Step, wp.Pre, wp.Places, formsOf)
+}
+
+// formsOf are all formulas of a step, mostly of one that can start, and where it leads.
+func formsOf(c scene, act, k int, f api.Form) ([]api.Form, []int, bool) {
+	if act > 0 {
+		act %= len(c.S.Acts) + 1
+	}
+	locs, ok := wp.Places(c.S, c.X.Locs, act)
+	return []api.Form{wp.Range(c.S, k), wp.Start(c.S, k), wp.Can(c.S, act, k), wp.Stuck(c.S, c.X.Locs, k),
+		wp.Step(c.S, c.X.Locs, act, k), wp.Pre(c.S, act, f)}, locs, ok
+}
+
+func TestP21_4RulesOfAbstr(t *testing.T) {
+	checkAll(t, abstr.Of, abstr.Same, abstr.Cmp, abstr.Cube, abstr.Base, abstr.Gather, abstr.Letter, abstr.Starts,
+		abstr.Steps, abstractOf,
+		func(c scene, ps []api.Rel, bits []bool, fuel int) ([]abstr.Step, int, bool) {
+			return abstr.Steps(c.S, ps, abstr.Abs{Locs: c.X.Locs, Bits: bits}, 5000+fuel%1000)
+		},
+		func(f, g api.Form, locs []int, bits []bool) ([]bool, bool) {
+			ps := abstr.Gather(nil, logic.All(logic.Flat(f), logic.Flat(g)))
+			return abstr.Letter([]api.Prop{{F: f}, {F: g}}, ps, abstr.Abs{Locs: locs, Bits: slices.Concat(bits, make([]bool, len(ps)))})
+		})
+}
+
+// abstractOf are the abstract initial states and the steps of the abstract state of a
+// state, with and without predicates.
+func abstractOf(c scene, ps []api.Rel) ([]abstr.Abs, []abstr.Step, []abstr.Step, bool) {
+	all, _, _ := abstr.Starts(c.S, ps, 20000)
+	some, _, ok := abstr.Steps(c.S, nil, abstr.Of(nil, c.X), 5000)
+	more, _, _ := abstr.Steps(c.S, ps, abstr.Of(ps, c.X), 20000)
+	return all, some, more, ok
+}
+
 // TestUsefulScenes: the systems and states that are made for these checks have states,
-// steps and runs often enough.
+// steps and runs often enough, also abstract ones.
 func TestUsefulScenes(t *testing.T) {
 	steps, edges, firsts, found := 0, 0, 0, 0
+	abstracts, targets := 0, 0
 	for seed := range int64(rounds) {
 		if reflect.ValueOf(stepsOf).Call(arguments(seed, reflect.TypeOf(stepsOf), 2))[1].Bool() {
 			steps++
@@ -206,6 +245,12 @@ func TestUsefulScenes(t *testing.T) {
 		if reflect.ValueOf(search).Call(arguments(seed, reflect.TypeOf(search), 2))[0].Int() == confine.Found {
 			found++
 		}
+		results = reflect.ValueOf(abstractOf).Call(arguments(seed, reflect.TypeOf(abstractOf), 2))
+		abstracts += results[0].Len()
+		targets += results[2].Len()
+	}
+	if abstracts < rounds/2 || targets < rounds/2 {
+		t.Errorf("only %d abstract initial states, and %d abstract steps", abstracts, targets)
 	}
 	if steps < rounds/20 || edges < rounds/2 || firsts < rounds || found < rounds/100 {
 		t.Errorf("only %d steps, %d edges, %d initial states, and %d runs", steps, edges, firsts, found)
