@@ -1,8 +1,6 @@
 package confine
 
 import (
-	"slices"
-
 	"plumbline/api"
 	"plumbline/buchi"
 	"plumbline/kripke"
@@ -39,21 +37,9 @@ func graphOf(c space, ps []api.Prop, a buchi.Auto) *graph {
 	g := &graph{space: c, props: ps, auto: a, choices: c.choices(), lists: map[spread][]int32{}}
 	g.fans, g.letters = make([][]fan, c.count), make([][]bool, c.count)
 	for _, n := range a.Nodes {
-		g.next = append(g.next, existing(n.Next, len(a.Nodes)))
+		g.next = append(g.next, nodes.Existing(n.Next, len(a.Nodes)))
 	}
 	return g
-}
-
-// existing returns the different nodes in a list that are among n nodes.
-func existing(list []int, n int) []int32 {
-	var all []int32
-	for _, node := range list {
-		if nodes.Exists(node, n) {
-			all = append(all, int32(node))
-		}
-	}
-	slices.Sort(all)
-	return slices.Compact(all)
 }
 
 // isPair reports whether the node allows the letter of the state.

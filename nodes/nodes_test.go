@@ -36,6 +36,21 @@ func TestExists(t *testing.T) {
 	}
 }
 
+func TestExisting(t *testing.T) {
+	for _, x := range []struct {
+		list []int
+		n    int
+		want string
+	}{
+		{nil, 5, "[]"}, {[]int{0}, 0, "[]"}, {[]int{0}, 1, "[0]"}, {[]int{2, 0, 1}, 3, "[0 1 2]"}, {[]int{2, 0, 2, 2, 0}, 3, "[0 2]"}, {[]int{3, -1, 1, math.MinInt, math.MaxInt, 1 << 32, 2}, 3, "[1 2]"},
+	} {
+		list := slices.Clone(x.list)
+		if got := fmt.Sprint(nodes.Existing(list, x.n)); got != x.want || !slices.Equal(list, x.list) {
+			t.Errorf("%v: %s", x, got)
+		}
+	}
+}
+
 // expectRounds expects the groups that follow from all ways of one or more edges.
 func expectRounds(t *testing.T, next [][]int) {
 	t.Helper()

@@ -11,10 +11,12 @@ import (
 	"plumbline/buchi"
 	"plumbline/confine"
 	"plumbline/decide"
+	"plumbline/dfs"
 	"plumbline/elim"
 	"plumbline/expr"
 	"plumbline/gba"
 	"plumbline/kripke"
+	"plumbline/lasso"
 	"plumbline/lex"
 	"plumbline/logic"
 	"plumbline/ltl"
@@ -229,11 +231,46 @@ func abstractOf(c scene, ps []api.Rel) ([]abstr.Abs, []abstr.Step, []abstr.Step,
 	return all, some, more, ok
 }
 
+func TestP22_4RulesOfDfs(t *testing.T) {
+	checkAll(t, dfs.Search, dfs.Right, dfs.Word, lassoOf,
+		func(c scene, props []api.Prop, ps []api.Rel, a buchi.Auto, fuel int) dfs.Answer {
+			return dfs.Search(c.S, props, ps, a, 20000+fuel%1000)
+		},
+		func(c scene, props []api.Prop, ps []api.Rel, a buchi.Auto) (bool, bool, word.Word, bool) {
+			l := lassoOf(c, a, len(ps) > 0).Lasso
+			right, known := dfs.Right(c.S, nil, nil, a, l, 5000)
+			w, ok := dfs.Word(props[:len(props)/2], ps, l)
+			return right, known, w, ok
+		},
+		func(c scene, a buchi.Auto, l dfs.Lasso) (bool, bool) { return dfs.Right(c.S, nil, nil, a, l, 5000) })
+}
+
+// lassoOf is an answer about locations only, also for an automaton that accepts all words.
+func lassoOf(c scene, a buchi.Auto, all bool) dfs.Answer {
+	if all {
+		a = buchi.Auto{Nodes: []gba.Node{{Next: []int{0}}}, First: []int{0}, Good: []bool{true}}
+	}
+	return dfs.Search(c.S, nil, nil, a, 20000)
+}
+
+func TestP23_4RulesOfLasso(t *testing.T) {
+	checkAll(t, lasso.Says, lasso.Check, runOf,
+		func(c scene, ps []api.Rel, l dfs.Lasso, rounds int) lasso.Answer {
+			return lasso.Check(c.S, ps, l, rounds, 10000)
+		},
+		func(c scene, ps []api.Rel, p lasso.Path) api.Form { return lasso.Says(c.S, ps, p) })
+}
+
+// runOf is an answer about a lasso of locations only.
+func runOf(c scene, a buchi.Auto, all bool, rounds int) lasso.Answer {
+	return lasso.Check(c.S, nil, lassoOf(c, a, all).Lasso, rounds, 50000)
+}
+
 // TestUsefulScenes: the systems and states that are made for these checks have states,
-// steps and runs often enough, also abstract ones.
+// steps and runs often enough, also abstract ones, and lassos.
 func TestUsefulScenes(t *testing.T) {
 	steps, edges, firsts, found := 0, 0, 0, 0
-	abstracts, targets := 0, 0
+	abstracts, targets, lassos, real := 0, 0, 0, 0
 	for seed := range int64(rounds) {
 		if reflect.ValueOf(stepsOf).Call(arguments(seed, reflect.TypeOf(stepsOf), 2))[1].Bool() {
 			steps++
@@ -248,6 +285,15 @@ func TestUsefulScenes(t *testing.T) {
 		results = reflect.ValueOf(abstractOf).Call(arguments(seed, reflect.TypeOf(abstractOf), 2))
 		abstracts += results[0].Len()
 		targets += results[2].Len()
+		if answer := reflect.ValueOf(lassoOf).Call(arguments(seed, reflect.TypeOf(lassoOf), 2))[0]; answer.Interface().(dfs.Answer).State == dfs.Found {
+			lassos++
+		}
+		if answer := reflect.ValueOf(runOf).Call(arguments(seed, reflect.TypeOf(runOf), 2))[0]; answer.Interface().(lasso.Answer).State == lasso.Real {
+			real++
+		}
+	}
+	if lassos < rounds/10 || real < rounds/20 {
+		t.Errorf("only %d lassos, and %d of them with runs", lassos, real)
 	}
 	if abstracts < rounds/2 || targets < rounds/2 {
 		t.Errorf("only %d abstract initial states, and %d abstract steps", abstracts, targets)
