@@ -1,6 +1,7 @@
 package elim_test
 
 import (
+	"fmt"
 	"math"
 	"math/big"
 	"math/rand"
@@ -219,6 +220,60 @@ func TestP6_1SolveByRules(t *testing.T) {
 	}
 	if solved < 500 || solved > 1500 || fresh < 500 || differences < 15 {
 		t.Errorf("%d are solved, with %d fresh variables, and solving to the end matters %d times", solved, fresh, differences)
+	}
+}
+
+// sparse has one or two of several variables.
+func sparse(r *rand.Rand, variables int, k int64, eq bool) api.Rel {
+	a := api.Rel{T: sumOf(k), Eq: eq}
+	for range 1 + r.Intn(2) {
+		a.T.Parts = append(a.T.Parts, part((1+r.Int63n(4)/3)*(1-2*r.Int63n(2)), r.Intn(variables)))
+	}
+	return a
+}
+
+// TestP6_1SolveOfManyByRules: lists with many relations, of which a term that is
+// substituted changes few or many, and some of these get the sums of others.
+func TestP6_1SolveOfManyByRules(t *testing.T) {
+	r := rand.New(rand.NewSource(61))
+	solved, failed, differences := 0, 0, 0
+	for i := range 1500 {
+		var rs []api.Rel
+		for range 5 + r.Intn(46) {
+			rs = append(rs, sparse(r, 3+i%12, r.Int63n(30)+r.Int63n(2)*20, false))
+		}
+		for range 1 + r.Intn(1+i%12) {
+			rs[r.Intn(len(rs))] = sparse(r, 3+i%12, r.Int63n(5)-2, true)
+		}
+		got := elim.Solve(rs, 0)
+		expectText(t, "Solve of "+relTexts(rs), shown(got), shown(byRules(rs, 0, &differences)))
+		if got.OK {
+			solved += min(len(got.Swaps), 1)
+		} else {
+			failed++
+		}
+	}
+	if solved < 500 || failed < 200 {
+		t.Errorf("%d are solved, %d are not", solved, failed)
+	}
+}
+
+// TestP6_1SolveOfLongLists: equations one after the other, which are thousands where paths
+// of many states are asked about.
+func TestP6_1SolveOfLongLists(t *testing.T) {
+	const n = 2500
+	var rs []api.Rel
+	for v := range n {
+		rs = append(rs, api.Rel{T: sumOf(1, part(1, v), part(-1, v+1)), Eq: true}) // one greater
+	}
+	for _, x := range []struct {
+		last api.Rel
+		want string
+	}{
+		{api.Rel{T: sumOf(-7, part(1, n))}, fmt.Sprintf("true 2500, v%d - 7 >= 0", n)}, {api.Rel{T: sumOf(-7, part(1, 0))}, fmt.Sprintf("true 2500, v%d - %d >= 0", n, n+7)}, {api.Rel{T: sumOf(0, part(1, 0), part(-1, n)), Eq: true}, "false 0, "}, {api.Rel{T: sumOf(n, part(1, 0), part(-1, n)), Eq: true}, "true 2500, "},
+	} {
+		s := elim.Solve(append(rs, x.last), 0)
+		expectText(t, relTexts([]api.Rel{x.last}), fmt.Sprint(s.OK, " ", len(s.Swaps), ", ", relTexts(s.Rest)), x.want)
 	}
 }
 

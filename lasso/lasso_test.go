@@ -129,7 +129,7 @@ func TestP23_1LongPaths(t *testing.T) {
 		state                           int
 		asked                           bool
 	}{
-		{0, 4094, 1, 1, 100, lasso.Real, true}, {0, 4095, 1, 1, 100, lasso.Fuel, false}, {0, 0, 4095, 3, 100, lasso.Real, true}, {0, 0, 4096, 3, 100, lasso.Fuel, false}, {0, 1 << 20, 1, 1, 100, lasso.Fuel, false}, {0, 0, 1 << 20, 8, 100, lasso.Fuel, false}, {0, 0, 4096, 1, 0, lasso.Fuel, false}, {1, 4095, 1, 1, 1 << 20, lasso.Fuel, false}, {1, 400, 100, 1, 1 << 20, lasso.Real, true},
+		{0, 4094, 1, 1, 100, lasso.Real, true}, {0, 4095, 1, 1, 100, lasso.Fuel, false}, {0, 0, 4095, 3, 100, lasso.Real, true}, {0, 0, 4096, 3, 100, lasso.Fuel, false}, {0, 1 << 20, 1, 1, 100, lasso.Fuel, false}, {0, 0, 1 << 20, 8, 100, lasso.Fuel, false}, {0, 0, 4096, 1, 0, lasso.Fuel, false}, {1, 4095, 1, 1, 1 << 20, lasso.Fuel, false}, {1, 400, 100, 1, 1 << 20, lasso.Real, true}, {1, 4094, 1, 1, 1 << 20, lasso.Real, true},
 		{1, 4094, 1, 1, 100, lasso.Fuel, true}, {1, 4095, 1, 1, 100, lasso.Fuel, false}, {16, 4000, 95, 8, 100, lasso.Fuel, true}, {16, 4000, 96, 8, 100, lasso.Fuel, false}, {17, 0, 3854, 1, 100, lasso.Fuel, true}, {17, 0, 3855, 1, 100, lasso.Fuel, false}, {1 << 15, 0, 1, 1, 100, lasso.Fuel, true}, {1<<15 + 1, 0, 1, 1, 100, lasso.Fuel, false}, {21845, 1, 1, 1, 100, lasso.Fuel, true}, {21846, 1, 1, 1, 100, lasso.Fuel, false}, {65536, 0, 1, 1, 100, lasso.Fuel, false}, {1 << 20, 0, 1, 1, 100, lasso.Fuel, false},
 		// the first path is short enough
 		{0, 4, 2000, 8, 100, lasso.Real, true}, {0, 90, 4000, 8, 100, lasso.Real, true},
