@@ -69,8 +69,9 @@ type todo struct {
 	next *todo
 }
 
-// combine visits the lists of the conjunction of list and open, which are flat
-// formulas. What is visited is overwritten afterwards.
+// combine visits the lists of the conjunction of list and open, which are flat formulas,
+// but for lists that Tidy would omit anyway: if it does so for the relations that several
+// lists begin with, none of these is made. What is visited is overwritten afterwards.
 func combine(open *todo, list []api.Rel, visit func([]api.Rel)) {
 	for open != nil {
 		f := open.f
@@ -83,8 +84,12 @@ func combine(open *todo, list []api.Rel, visit func([]api.Rel)) {
 		case api.And:
 			open = allOf(f.Kids, open)
 		case api.Or:
+			tidy, ok := rel.Tidy(list)
+			if !ok {
+				return
+			}
 			for _, kid := range f.Kids {
-				combine(&todo{kid, open}, list, visit)
+				combine(&todo{kid, open}, tidy, visit)
 			}
 			return
 		}

@@ -174,6 +174,19 @@ func TestP5_1CubesOfManyLists(t *testing.T) {
 	expectMany(t, of(api.Or, ors(31, 4), ors(31, 4)), math.MaxInt)
 }
 
+// TestP5_1CubesOmittedEarly: lists that have relations in common which cannot hold together
+// are not made one by one: here, these would be 2^40.
+func TestP5_1CubesOmittedEarly(t *testing.T) {
+	low := of(api.Or, least(-1, -1), least(-1, -2)) // both are below 0
+	f := of(api.And, least(0, 1))
+	for range 40 {
+		f.Kids = append(f.Kids, low)
+	}
+	expectCubes(t, f, math.MaxInt, nil)
+	apart := of(api.Or, of(api.And, least(0, 1), least(1, 1)), f, of(api.And, least(1, 1), low))
+	expectCubes(t, apart, math.MaxInt, tidied(lists(logic.Flat(of(api.Or, apart.Kids[0], apart.Kids[2])))))
+}
+
 func TestP5_1CubesOfDeepAndWide(t *testing.T) {
 	const n = 20000
 	for _, x := range []struct {

@@ -9,6 +9,7 @@ import (
 	"plumbline/abstr"
 	"plumbline/api"
 	"plumbline/buchi"
+	"plumbline/cegar"
 	"plumbline/confine"
 	"plumbline/decide"
 	"plumbline/dfs"
@@ -23,6 +24,7 @@ import (
 	"plumbline/model"
 	"plumbline/omega"
 	"plumbline/pretty"
+	"plumbline/refine"
 	"plumbline/rel"
 	"plumbline/shadow"
 	"plumbline/term"
@@ -266,11 +268,46 @@ func runOf(c scene, a buchi.Auto, all bool, rounds int) lasso.Answer {
 	return lasso.Check(c.S, nil, lassoOf(c, a, all).Lasso, rounds, 50000)
 }
 
+func TestP24_4RulesOfRefine(t *testing.T) {
+	checkAll(t, refine.Conditions, refine.New, refinedOf,
+		func(c scene, ps []api.Rel, p lasso.Path) ([]api.Form, []api.Rel, bool) {
+			all, more := refine.New(c.S, ps, p)
+			return refine.Conditions(c.S, ps, p), all, more
+		})
+}
+
+// refinedOf is what layer 24 derives from a path of some steps.
+func refinedOf(c scene, ps []api.Rel) ([]api.Form, []api.Rel, bool) {
+	r := runFrom(c)
+	p := lasso.Path{Acts: r.Acts}
+	for _, x := range slices.Concat(r.Stem, r.Cycle) {
+		p.States = append(p.States, abstr.Of(ps, x))
+	}
+	all, more := refine.New(c.S, ps, p)
+	return refine.Conditions(c.S, ps, p), all, more
+}
+
+func TestP25_1RulesOfCegar(t *testing.T) {
+	checkAll(t, cegar.Check, verdictOf,
+		func(c scene, f api.Ltl, props []api.Prop, fuel int) cegar.Result {
+			return cegar.Check(c.S, f, props, fuel)
+		})
+}
+
+// verdictOf is a verdict about a system whose variables have bounds or not.
+func verdictOf(c scene, f api.Ltl, props []api.Prop, free bool, fuel int) cegar.Result {
+	if free {
+		c.S.Bounds = nil
+	}
+	return cegar.Check(c.S, f, props, 3000+fuel%1000)
+}
+
 // TestUsefulScenes: the systems and states that are made for these checks have states,
-// steps and runs often enough, also abstract ones, and lassos.
+// steps and runs often enough, also abstract ones, lassos, and verdicts of all kinds.
 func TestUsefulScenes(t *testing.T) {
 	steps, edges, firsts, found := 0, 0, 0, 0
 	abstracts, targets, lassos, real := 0, 0, 0, 0
+	refined, verdicts := 0, map[string]int{}
 	for seed := range int64(rounds) {
 		if reflect.ValueOf(stepsOf).Call(arguments(seed, reflect.TypeOf(stepsOf), 2))[1].Bool() {
 			steps++
@@ -291,6 +328,15 @@ func TestUsefulScenes(t *testing.T) {
 		if answer := reflect.ValueOf(runOf).Call(arguments(seed, reflect.TypeOf(runOf), 2))[0]; answer.Interface().(lasso.Answer).State == lasso.Real {
 			real++
 		}
+		if reflect.ValueOf(refinedOf).Call(arguments(seed, reflect.TypeOf(refinedOf), 2))[0].Len() > 1 {
+			refined++
+		}
+		verdict := reflect.ValueOf(verdictOf).Call(arguments(seed, reflect.TypeOf(verdictOf), 2))[0].Interface().(cegar.Result)
+		verdicts[verdict.Why]++
+		verdicts[[]string{"", "holds", "violated", "unknown"}[verdict.Verdict]]++
+	}
+	if refined < rounds/10 || verdicts["abstraction"] < rounds/20 || verdicts["all states"] < rounds/20 || verdicts["holds"] < rounds/10 || verdicts["violated"] < rounds/20 {
+		t.Errorf("only %d paths, and the verdicts %v", refined, verdicts)
 	}
 	if lassos < rounds/10 || real < rounds/20 {
 		t.Errorf("only %d lassos, and %d of them with runs", lassos, real)
